@@ -113,21 +113,27 @@ def deed_made(grouping, deed):
     return sorted([block for block in grouping if block != gone] + [block_out(turned(deed))])
 
 
-def deed_against(grouping, block):
-    """The one deed that takes a block out, None for that of all things."""
-    around = holder_of(grouping, block)
-    if around is None:
-        return None
-    middle = split_of(grouping, block)
-    if block[0] == around[0]:
-        return ("right", block[0], middle, block[1], around[1])
-    return ("left", around[0], block[0], middle, block[1])
+def splits_at(grouping):
+    """The places where the first parts of the blocks end, in the order of the blocks."""
+    ahead = [(None, None)] + grouping
+    return [last[1] if last[0] == first else first + 1 for last, (first, _) in zip(ahead, grouping)]
 
 
 def deeds_at(grouping):
-    """The ascending list of the deeds that fit a grouping."""
-    deeds = [deed_against(grouping, block) for block in grouping]
-    return sorted([deed for deed in deeds if deed is not None])
+    """The ascending list of the deeds that fit a grouping.
+
+    A block is a first part just where the one behind it, in ascending order,
+    begins with the same thing: that one holds it. Any other, but that of all
+    things, is the second part of the last one ahead of it that ends where it does.
+    """
+    deeds, begun = [], {}
+    for (first, end), split, behind in zip(grouping, splits_at(grouping), grouping[1:] + [(None, None)]):
+        if behind[0] == first:
+            deeds.append(("right", first, split, end, behind[1]))
+        elif end in begun:
+            deeds.append(("left", begun[end], first, split, end))
+        begun[end] = first
+    return sorted(deeds)
 
 
 def walk_end(grouping, value):

@@ -51,6 +51,18 @@ def kind_of(kinds, row, some):
     return fold(kinds.table(), row[some[0]:some[1]])
 
 
+def kinds_of_spans(kinds, row):
+    """The kinds of all things and blocks of a row, by their spans."""
+    table, made = kinds.table(), {}
+    for first, thing in enumerate(row):
+        there = thing
+        made[(first, first + 1)] = there
+        for end in range(first + 2, len(row) + 1):
+            there = table[(there, row[end - 1])]
+            made[(first, end)] = there
+    return made
+
+
 def parts_of_span(grouping, span):
     middle = split_of(grouping, span)
     return ((span[0], middle), (middle, span[1]))

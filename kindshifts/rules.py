@@ -43,9 +43,19 @@ def need_triples(kinds, triples):
         raise InvalidTriples(triples)
 
 
+def is_four_of(kinds, value):
+    return isinstance(value, list) and len(value) == 4 and has_kinds(kinds, value)
+
+
 def need_four(kinds, four):
-    if not isinstance(four, list) or len(four) != 4 or not has_kinds(kinds, four):
+    if not is_four_of(kinds, four):
         raise InvalidFour(four)
+
+
+def all_fours(kinds):
+    """The ascending list of all fours of kinds."""
+    names = kinds.kinds()
+    return [[a, b, c, d] for a in names for b in names for c in names for d in names]
 
 
 def need_grouped_row(kinds, row, grouping):
@@ -63,6 +73,11 @@ def triple_of(kinds, row, deed):
     """The triple of a deed within the row, whether it fits a grouping or not."""
     table = kinds.table()
     return tuple([fold(table, row[first:end]) for (first, end) in parts_of_deed(deed)])
+
+
+def triple_at(spans, deed):
+    """The triple of a deed within a row of whose spans the kinds are told."""
+    return tuple([spans[span] for span in parts_of_deed(deed)])
 
 
 def is_let(rule, row, deed):
@@ -128,9 +143,7 @@ def chain_end(rule, row, grouping, chain):
 
 
 def is_chain(rule, row, one, other, value):
-    need_rule(rule)
-    need_grouped_row(rule.kinds(), row, one)
-    need_grouping(len(row), other)
+    need_two_groupings(rule, row, one, other)
     return led_to(rule, row, one, value) == other
 
 
@@ -170,6 +183,13 @@ def mirrored_rule(rule):
     return Rule(opposite(rule.kinds()), sorted([(c, b, a) for (a, b, c) in rule.triples()]))
 
 
+def need_two_groupings(rule, row, one, other):
+    """Asks for a rule, a row of its kinds and two groupings of it."""
+    need_rule(rule)
+    need_grouped_row(rule.kinds(), row, one)
+    need_grouping(len(row), other)
+
+
 def need_walk(grouping, chain):
     if walk_end(grouping, chain) is None:
         raise InvalidChain(chain)
@@ -192,8 +212,13 @@ def barring_deed(rule, row, grouping, chain):
 def five_edges(kinds, four):
     need_kinds(kinds)
     need_four(kinds, four)
+    return edges_of(kinds.table(), four)
+
+
+def edges_of(table, four):
+    """The triples of the five edges of a four, in their order."""
     a, b, c, d = four
-    return [(a, b, c), (a, kinds.put(b, c), d), (b, c, d), (kinds.put(a, b), c, d), (a, b, kinds.put(c, d))]
+    return [(a, b, c), (a, table[(b, c)], d), (b, c, d), (table[(a, b)], c, d), (a, b, table[(c, d)])]
 
 
 def five_parts(rule, four):

@@ -1,9 +1,13 @@
 """What the tests share: any objects, calls with wrong arguments, and plain trials."""
 
+import random
+from functools import lru_cache
 from itertools import combinations, product
 
+from kindshifts.combing import Comb, left_comb, right_comb
+from kindshifts.ending import layers_of
 from kindshifts.errors import InvalidKind, NothingToUndo
-from kindshifts.kinds import Kinds, first_kinds, greatest_kinds, ring_kinds
+from kindshifts.kinds import Kinds, first_kinds, greatest_kinds, last_kinds, ring_kinds
 from kindshifts.rules import Rule
 
 EVEN_TABLE = {("e", "e"): "e", ("e", "o"): "o", ("o", "e"): "o", ("o", "o"): "e"}
@@ -25,13 +29,62 @@ def seven():
 
 def some_kinds():
     """Kinds of one to four words, of several makes."""
-    lesser = {("a", "a"): "a", ("a", "b"): "a", ("b", "a"): "a", ("b", "b"): "b"}
     nil = {(x, y): "n" for x in "nxy" for y in "nxy"}
     wide = {("l", "l"): "l", ("l", "r"): "z", ("r", "l"): "z", ("r", "r"): "r"}
     wide.update({("z", x): "z" for x in "lrz"})
     wide.update({(x, "z"): "z" for x in "lrz"})
-    return [even(), first_kinds(["z"]), Kinds(lesser), first_kinds(["a", "b", "c"]), ring_kinds(["x", "aa", "m", "b"]),
+    return [even(), first_kinds(["z"]), lesser(), first_kinds(["a", "b", "c"]), ring_kinds(["x", "aa", "m", "b"]),
             greatest_kinds(["c", "a", "b"]), Kinds(nil), Kinds(wide)]
+
+
+def lesser():
+    return Kinds({("a", "a"): "a", ("a", "b"): "a", ("b", "a"): "a", ("b", "b"): "b"})
+
+
+def two_kinds():
+    """Kinds of two words, of all makes."""
+    return [even(), lesser(), first_kinds(["a", "b"]), last_kinds(["a", "b"]), greatest_kinds(["a", "b"]),
+            Kinds({(x, y): "n" for x in "mn" for y in "mn"})]
+
+
+def rule_of(kinds, number):
+    """The rule of those triples, ascending, whose binary figure in the number is 1."""
+    return Rule(kinds, [triple for place, triple in enumerate(every_triple(kinds)) if number >> place & 1])
+
+
+def mixed():
+    """A settled comb of arrows of both words, that of the examples."""
+    triples = every_triple(even())[:7]
+    ways = {triple: "left" if triple in [("o", "e", "o"), ("e", "e", "o")] else "right" for triple in triples}
+    pairs = list(product("eo", "eo"))
+    return Comb(Rule(even(), triples), ways, [{pair: (int(pair == ("e", "o")), 0, 0) for pair in pairs},
+                                              {pair: (0, 1, 0) for pair in pairs}])
+
+
+def unsettled():
+    return right_comb(Rule(even(), [("e", "o", "o"), ("o", "o", "o")]))
+
+
+@lru_cache(maxsize=None)
+def mixed_combs(many, seed=3):
+    """Combs of arrows of both words, of kinds of several makes, settled or not."""
+    chance, found = random.Random(seed), []
+    while len(found) < many:
+        kinds = chance.choice(some_kinds() + two_kinds())
+        triples = [triple for triple in every_triple(kinds) if chance.random() < 0.7]
+        ways = {triple: chance.choice(["left", "right"]) for triple in triples}
+        layers = layers_of(Rule(kinds, triples), ways)
+        if layers is not None and len(set(ways.values())) == 2:
+            found.append(Comb(Rule(kinds, triples), ways, layers))
+    return found
+
+
+def some_combs():
+    """Combs of one way and of both ways, settled or not, of few triples and of many."""
+    rules = [seven(), Rule(even(), []), Rule(even(), every_triple(even())), Rule(even(), every_triple(even())[1::2]),
+             Rule(lesser(), [triple for triple in every_triple(lesser()) if triple != ("a", "a", "b")]),
+             Rule(first_kinds(["z"]), [("z", "z", "z")]), Rule(first_kinds(["z"]), [])]
+    return [mixed(), unsettled()] + [made(rule) for rule in rules for made in (right_comb, left_comb)]
 
 
 def deep(depth):
@@ -55,7 +108,7 @@ def pool():
 
 def some_objects():
     """Objects of the package, each wanted by some parameter."""
-    return [even(), seven(), Rule(even(), [])]
+    return [even(), seven(), Rule(even(), []), mixed()]
 
 
 def shown(value):
@@ -64,6 +117,8 @@ def shown(value):
         return f"Kinds({value.table()!r})"
     if isinstance(value, Rule):
         return f"Rule({value.kinds().table()!r}, {value.triples()!r})"
+    if isinstance(value, Comb):
+        return f"Comb({shown(value.rule())}, {value.arrows()!r}, {value.layers()!r})"
     if isinstance(value, list):
         return "[" + ", ".join([shown(item) for item in value]) + "]"
     if isinstance(value, tuple):
@@ -136,11 +191,16 @@ def crossing(one, other):
     return bool(ours & theirs) and not ours <= theirs and not theirs <= ours
 
 
+@lru_cache(maxsize=None)
+def kept_groupings(size):
+    lists = combinations(sorted(try_blocks(size)), size - 1)
+    return sorted(blocks for blocks in lists
+                  if not any(crossing(one, other) for one, other in combinations(blocks, 2)))
+
+
 def try_groupings(size):
     """All groupings of so many things, out of all lists of blocks."""
-    lists = combinations(sorted(try_blocks(size)), size - 1)
-    return sorted([list(blocks) for blocks in lists
-                   if not any(crossing(one, other) for one, other in combinations(blocks, 2))])
+    return [list(blocks) for blocks in kept_groupings(size)]
 
 
 def try_parts(grouping, block):
@@ -185,6 +245,67 @@ def try_kind(kinds, row):
     for thing in reversed(row[:-1]):
         made = kinds.put(thing, made)
     return made
+
+
+def try_triple(kinds, row, deed):
+    _, first, second, third, end = deed
+    return tuple(try_kind(kinds, row[a:b]) for a, b in [(first, second), (second, third), (third, end)])
+
+
+@lru_cache(maxsize=None)
+def try_steps(size):
+    """All tuples of a grouping of so many things, a deed that fits it, and what it makes, groupings as tuples."""
+    return [(tuple(grouping), deed, tuple(try_done(grouping, deed)))
+            for grouping in try_groupings(size) for deed in try_deeds(grouping)]
+
+
+def try_let(rule, row):
+    """For each grouping, as a tuple, the list of the tuples of a let deed and what it makes."""
+    graph = {tuple(grouping): [] for grouping in try_groupings(len(row))}
+    triples = rule.triples()
+    for here, deed, there in try_steps(len(row)):
+        if try_triple(rule.kinds(), row, deed) in triples:
+            graph[here].append((deed, there))
+    return graph
+
+
+def try_along(comb, row):
+    """The same for the deeds along the arrows of a comb."""
+    arrows, kinds = comb.arrows(), comb.rule().kinds()
+    return {here: [(deed, there) for deed, there in steps if arrows[try_triple(kinds, row, deed)] == deed[0]]
+            for here, steps in try_let(comb.rule(), row).items()}
+
+
+def try_classes(rule, row):
+    """The ascending list of the classes: lists of groupings that are poured together as long as a deed joins two."""
+    graph = try_let(rule, row)
+    mark = {here: here for here in graph}
+    for here, steps in graph.items():
+        for _, there in steps:
+            if mark[here] != mark[there]:
+                gone, kept = mark[there], mark[here]
+                mark = {some: kept if mark[some] == gone else mark[some] for some in mark}
+    return sorted(sorted(list(here) for here in mark if mark[here] == some) for some in sorted(set(mark.values())))
+
+
+def try_settled(comb, row):
+    """Whether each class of a row has just one last grouping."""
+    graph = try_along(comb, row)
+    return all(sum(not graph[tuple(some)] for some in found) == 1 for found in try_classes(comb.rule(), row))
+
+
+def try_fewest(graph, start):
+    """For each grouping the least number of steps from a start and how many walks of so many there are."""
+    found, walks, many = {}, {start: 1}, 0
+    while many <= len(graph):
+        for here in walks:
+            found.setdefault(here, (many, walks[here]))
+        onward = {}
+        for here, number in walks.items():
+            for _, there in graph[here]:
+                onward[there] = onward.get(there, 0) + number
+        walks, many = onward, many + 1
+    return found
 
 
 def rows_of(kinds, size):

@@ -53,6 +53,68 @@ start = [(0, 2), (0, 3), (0, 4)]
 # [[('left', 0, 1, 2, 4), ('left', 0, 2, 3, 4)], True, 8]
 '''
 
+JOINING = '''
+from kindshifts.joining import all_classes, are_joined, class_count, class_of, farthest, fewest_deeds, idle_triples, is_shut_list, lone_groupings, many_shortest, needed_triples, parting_list, shortest_chain
+from kindshifts.kinds import Kinds
+from kindshifts.rules import Rule
+even = Kinds({("e", "e"): "e", ("e", "o"): "o", ("o", "e"): "o", ("o", "o"): "e"})
+rule = Rule(even, [("e", "e", "e"), ("e", "e", "o"), ("e", "o", "e"), ("e", "o", "o"), ("o", "e", "e"), ("o", "e", "o"), ("o", "o", "e")])
+row = ["o", "o", "o", "o"]
+zero, one, two = [(0, 2), (0, 3), (0, 4)], [(0, 3), (0, 4), (1, 3)], [(0, 4), (1, 3), (1, 4)]
+three, four = [(0, 4), (1, 4), (2, 4)], [(0, 2), (0, 4), (2, 4)]
+[class_of(rule, row, zero) == [zero, four, three], class_of(rule, row, one) == [one, two], class_count(rule, row), lone_groupings(rule, row), are_joined(rule, row, zero, one)]
+# [True, True, 2, [], False]
+[fewest_deeds(rule, row, zero, three), fewest_deeds(rule, row, zero, one), many_shortest(rule, row, zero, three), farthest(rule, row, four), shortest_chain(rule, row, one, two)]
+# [2, None, 1, 1, [('right', 0, 1, 3, 4)]]
+[parting_list(rule, row, one, zero) == [one, two], is_shut_list(rule, row, [zero, four]), is_shut_list(rule, row, []), len(all_classes(rule, ["o", "o", "o"]))]
+# [True, False, True, 2]
+[needed_triples(rule, row, zero, three), idle_triples(rule, row)]
+# [[('e', 'o', 'o'), ('o', 'o', 'e')], [('e', 'e', 'e'), ('e', 'e', 'o'), ('e', 'o', 'e'), ('o', 'e', 'e')]]
+'''
+
+ENDING = '''
+from kindshifts.ending import are_layers, balanced_lot, is_balanced_lot, is_round, layers_of, round_of, weight_of
+from kindshifts.kinds import Kinds
+from kindshifts.rules import Rule
+even = Kinds({("e", "e"): "e", ("e", "o"): "o", ("o", "e"): "o", ("o", "o"): "e"})
+two = Rule(even, [("e", "e", "e"), ("e", "o", "e")])
+ways = {("e", "e", "e"): "right", ("e", "o", "e"): "left"}
+layer = {("e", "e"): (0, 1, 0), ("e", "o"): (0, 0, 1), ("o", "e"): (0, 0, 1), ("o", "o"): (0, 0, 0)}
+plain = {("e", "e"): (1, 0, 0), ("e", "o"): (1, 0, 0), ("o", "e"): (1, 0, 0), ("o", "o"): (1, 0, 0)}
+[are_layers(two, ways, [layer]), are_layers(two, ways, [plain]), are_layers(two, ways, [plain, layer]), layers_of(two, ways) is None, balanced_lot(two, ways), round_of(two, ways, 4)]
+# [True, False, True, False, None, None]
+[weight_of(two, layer, ["e", "e", "e"], [(0, 2), (0, 3)]), weight_of(two, layer, ["e", "e", "e"], [(0, 3), (1, 3)]), weight_of(two, plain, ["e", "o", "e"], [(0, 2), (0, 3)])]
+# [3, 2, 2]
+odd = Rule(even, [("e", "o", "o"), ("o", "e", "o"), ("o", "o", "e"), ("o", "o", "o")])
+about = {("e", "o", "o"): "left", ("o", "e", "o"): "right", ("o", "o", "e"): "left", ("o", "o", "o"): "right"}
+start = [(0, 2), (0, 3), (0, 4)]
+told = (["o", "o", "o", "o"], start, [("right", 0, 1, 2, 3), ("right", 0, 1, 3, 4), ("right", 1, 2, 3, 4), ("left", 0, 1, 2, 4), ("left", 0, 2, 3, 4)])
+[is_round(odd, about, told), layers_of(odd, about), is_round(odd, about, (told[0], start, told[2][:4])), round_of(odd, about, 3)]
+# [True, None, False, None]
+is_balanced_lot(odd, about, {("e", "o", "o"): (1, 2, 1, 1), ("o", "e", "o"): (1, 1, 2, 1), ("o", "o", "e"): (1, 1, 1, 2), ("o", "o", "o"): (2, 2, 2, 2)})
+# True
+'''
+
+SETTLED = '''
+from kindshifts.kinds import Kinds
+from kindshifts.rules import Rule
+from kindshifts.combing import Comb, all_lasts, is_last, last_ones, longest_combing, many_combings, meeting, open_deeds, right_comb, shortest_combing
+from kindshifts.settled import is_settled, is_unsettled_four, is_unsettled_row, five_lasts, five_shifts, meeting_corner, parting_fours, settled_words
+even = Kinds({("e", "e"): "e", ("e", "o"): "o", ("o", "e"): "o", ("o", "o"): "e"})
+triples = [(x, y, z) for x in "eo" for y in "eo" for z in "eo"]
+row, first = ["o", "o", "o", "o"], [(0, 2), (0, 3), (0, 4)]
+right = right_comb(Rule(even, triples))
+[open_deeds(right, row, first), is_last(right, row, first), all_lasts(right, row), shortest_combing(right, row, first), longest_combing(right, row, first), many_combings(right, row, first)]
+# [[('right', 0, 1, 2, 3), ('right', 0, 2, 3, 4)], False, [[(0, 4), (1, 4), (2, 4)]], 2, 3, 2]
+[is_settled(right), settled_words(right.rule()), meeting(right, row, [(0, 3), (0, 4), (1, 3)], [(0, 2), (0, 4), (2, 4)]), meeting_corner(right, row, 0), meeting_corner(right, row, 1)]
+# [True, ['left', 'right'], [(0, 4), (1, 4), (2, 4)], 3, None]
+two = right_comb(Rule(even, [("e", "o", "o"), ("o", "o", "o")]))
+[five_shifts(two.rule(), row), five_lasts(two, row), is_settled(two), settled_words(two.rule()), row in parting_fours(two), meeting_corner(two, row, 0)]
+# [[(0, 1), (0, 4), (2, 3)], [[1, 4], [1], [3], [3], [4]], False, ['left'], True, None]
+[is_unsettled_four(two, (row, 0)), is_unsettled_row(two, (row, [(0, 3), (0, 4), (1, 3)], [(0, 2), (0, 4), (2, 4)], [("left", 0, 1, 2, 3), ("right", 0, 2, 3, 4)]))]
+# [True, True]
+'''
+
 
 def run_examples(test, text):
     """Runs the lines, and compares what stands ahead of a line `# ..` with it."""
@@ -76,6 +138,15 @@ class Examples(unittest.TestCase):
 
     def test_section_5_rules(self):
         self.assertEqual(run_examples(self, RULES), 5)
+
+    def test_section_6_joining(self):
+        self.assertEqual(run_examples(self, JOINING), 4)
+
+    def test_section_10_settled(self):
+        self.assertEqual(run_examples(self, SETTLED), 4)
+
+    def test_section_8_ending(self):
+        self.assertEqual(run_examples(self, ENDING), 4)
 
 
 if __name__ == "__main__":

@@ -10,7 +10,7 @@ from kindshifts.rules import (Rule, all_triples, barring_deed, chain_back, chain
                               fitting_deeds, five_edges, five_parts, is_chain, let_deeds, mirrored_rule, rule_by_places,
                               rule_with, rule_without, triples_used)
 from tests.support import (EVEN_TABLE, check_judge, check_wrong, even, every_triple, pool, raised, rows_of, seven,
-                           shown, some_kinds, try_deeds, try_done, try_groupings, try_kind, wrong_for)
+                           shown, some_kinds, try_deeds, try_done, try_groupings, try_triple, wrong_for)
 from tests.test_groupings import BAD_GROUPINGS, LEFT, NEST, OF_FOUR, PAIRS
 from tests.test_kinds import WRONG_KINDS, WRONG_ROWS
 
@@ -44,11 +44,6 @@ def some_rules():
     for kinds in some_kinds():
         rules.append(Rule(kinds, every_triple(kinds)[::2]))
     return rules
-
-
-def try_triple(kinds, row, deed):
-    _, first, second, third, end = deed
-    return tuple(try_kind(kinds, row[a:b]) for a, b in [(first, second), (second, third), (third, end)])
 
 
 def walks(grouping, length):
