@@ -6,9 +6,10 @@ from itertools import combinations, product
 
 from kindshifts.combing import Comb, left_comb, right_comb
 from kindshifts.ending import layers_of
-from kindshifts.errors import InvalidKind, NothingToUndo
+from kindshifts.errors import InvalidComb, InvalidKind, NothingToUndo, Unsettled
 from kindshifts.kinds import Kinds, first_kinds, greatest_kinds, last_kinds, ring_kinds
 from kindshifts.rules import Rule
+from kindshifts.settled import is_settled
 
 EVEN_TABLE = {("e", "e"): "e", ("e", "o"): "o", ("o", "e"): "o", ("o", "o"): "e"}
 ODD_TABLE = {("a", "a"): "b", ("a", "b"): "a", ("b", "a"): "b", ("b", "b"): "a"}
@@ -70,13 +71,22 @@ def mixed_combs(many, seed=3):
     """Combs of arrows of both words, of kinds of several makes, settled or not."""
     chance, found = random.Random(seed), []
     while len(found) < many:
-        kinds = chance.choice(some_kinds() + two_kinds())
-        triples = [triple for triple in every_triple(kinds) if chance.random() < 0.7]
+        kinds = chance.choice(some_kinds() + two_kinds() * 3)
+        share = 0.7 if len(kinds.kinds()) < 3 else 0.3
+        triples = [triple for triple in every_triple(kinds) if chance.random() < share][:12]
         ways = {triple: chance.choice(["left", "right"]) for triple in triples}
         layers = layers_of(Rule(kinds, triples), ways)
         if layers is not None and len(set(ways.values())) == 2:
             found.append(Comb(Rule(kinds, triples), ways, layers))
     return found
+
+
+def settled_combs():
+    """Settled combs of one way and of both ways."""
+    rules = [rule_of(kinds, number) for kinds in two_kinds() for number in (1, 15, 32, 51, 85, 129, 170, 252, 255)]
+    rules += [Rule(first_kinds(["a", "b", "c"]), every_triple(first_kinds(["a", "b", "c"]))[1::2])]
+    found = some_combs() + [made(rule) for rule in rules for made in (right_comb, left_comb)] + mixed_combs(120)
+    return [comb for comb in found if is_settled(comb)]
 
 
 def some_combs():
@@ -163,6 +173,28 @@ def check_wrong(test, function, good, wrong):
                         test.assertIs(type(error), kind)
                         test.assertIs(error.value, argument)
                         test.assertEqual(shown(list(passed.values())), before)
+
+
+def check_unsettled(test, function, good, wrong):
+    """Asks a function of a settled comb, its first argument, for Unsettled behind all other errors.
+
+    `good` makes the list of (name, argument) of a call; `wrong` is as for `check_wrong`.
+    """
+    comb = unsettled()
+    passed = dict(good())
+    passed["comb"] = comb
+    error = raised(lambda: function(**passed))
+    test.assertIs(type(error), Unsettled, function)
+    test.assertIs(error.value, comb)
+    for name, kind, arguments in wrong:
+        for argument in arguments:
+            error = raised(lambda: function(**{**passed, name: argument}))
+            with test.subTest(function=function, parameter=name, argument=argument):
+                if name == "comb":
+                    test.assertIs(type(error), InvalidComb)
+                else:
+                    test.assertIs(type(error), kind)
+                    test.assertIs(error.value, argument)
 
 
 def wrong_for(allowed=()):
@@ -292,6 +324,26 @@ def try_settled(comb, row):
     """Whether each class of a row has just one last grouping."""
     graph = try_along(comb, row)
     return all(sum(not graph[tuple(some)] for some in found) == 1 for found in try_classes(comb.rule(), row))
+
+
+def try_last(graph, found):
+    """The one last grouping of a class."""
+    lasts = [some for some in found if not graph[tuple(some)]]
+    assert len(lasts) == 1
+    return lasts[0]
+
+
+def try_key(grouping, span):
+    """What stands in the order of splits as groupings do: tuples of the split, the left part and the right one."""
+    if span[1] - span[0] == 1:
+        return ()
+    left, right = try_parts(grouping, span)
+    return (left[1], try_key(grouping, left), try_key(grouping, right))
+
+
+def try_order(groupings):
+    """Groupings of as many things in the order of splits."""
+    return sorted(groupings, key=lambda grouping: try_key(grouping, (0, len(grouping) + 1)))
 
 
 def try_fewest(graph, start):

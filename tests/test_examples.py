@@ -95,11 +95,12 @@ is_balanced_lot(odd, about, {("e", "o", "o"): (1, 2, 1, 1), ("o", "e", "o"): (1,
 # True
 '''
 
-SETTLED = '''
+LASTS = '''
 from kindshifts.kinds import Kinds
 from kindshifts.rules import Rule
 from kindshifts.combing import Comb, all_lasts, is_last, last_ones, longest_combing, many_combings, meeting, open_deeds, right_comb, shortest_combing
 from kindshifts.settled import is_settled, is_unsettled_four, is_unsettled_row, five_lasts, five_shifts, meeting_corner, parting_fours, settled_words
+from kindshifts.lasts import joined_around, joined_by_lasts, joined_within, last_of, parting_block, put_together
 even = Kinds({("e", "e"): "e", ("e", "o"): "o", ("o", "e"): "o", ("o", "o"): "e"})
 triples = [(x, y, z) for x in "eo" for y in "eo" for z in "eo"]
 row, first = ["o", "o", "o", "o"], [(0, 2), (0, 3), (0, 4)]
@@ -113,6 +114,83 @@ two = right_comb(Rule(even, [("e", "o", "o"), ("o", "o", "o")]))
 # [[(0, 1), (0, 4), (2, 3)], [[1, 4], [1], [3], [3], [4]], False, ['left'], True, None]
 [is_unsettled_four(two, (row, 0)), is_unsettled_row(two, (row, [(0, 3), (0, 4), (1, 3)], [(0, 2), (0, 4), (2, 4)], [("left", 0, 1, 2, 3), ("right", 0, 2, 3, 4)]))]
 # [True, True]
+some = Rule(even, triples[:7])
+arrows = dict([(triple, "left" if triple in [("o", "e", "o"), ("e", "e", "o")] else "right") for triple in some.triples()])
+pairs = [(x, y) for x in "eo" for y in "eo"]
+mixed = Comb(some, arrows, [dict([(pair, (int(pair == ("e", "o")), 0, 0)) for pair in pairs]), dict([(pair, (0, 1, 0)) for pair in pairs])])
+[five_shifts(some, row), five_lasts(mixed, row), is_settled(mixed), settled_words(some), last_of(mixed, row, first), last_ones(mixed, row, first)]
+# [[(0, 4), (1, 2), (4, 3)], [[3], [1], [1], [3], [3]], True, [], [(0, 4), (1, 4), (2, 4)], [[(0, 4), (1, 4), (2, 4)]]]
+[joined_by_lasts(mixed, row, first, [(0, 3), (0, 4), (1, 3)]), parting_block(mixed, row, first, [(0, 3), (0, 4), (1, 3)]), put_together(mixed, row, [(0, 2)], [(0, 2)])]
+# [False, (0, 3), [(0, 4), (1, 4), (2, 4)]]
+joined_by_lasts(mixed, row, first, [(0, 2), (0, 4), (2, 4)])
+# True
+lesser = Kinds({("a", "a"): "a", ("a", "b"): "a", ("b", "a"): "a", ("b", "b"): "b"})
+but = right_comb(Rule(lesser, [(x, y, z) for x in "ab" for y in "ab" for z in "ab" if (x, y, z) != ("a", "a", "b")]))
+[is_settled(but), joined_by_lasts(but, ["a", "a", "b", "a"], first, [(0, 3), (0, 4), (1, 3)]), joined_within(but, ["a", "a", "b", "a"], (0, 3), first, [(0, 3), (0, 4), (1, 3)]), joined_around(but, ["a", "a", "b", "a"], (0, 3), first, [(0, 3), (0, 4), (1, 3)])]
+# [True, True, False, True]
+'''
+
+NUMBERS = '''
+from kindshifts.combing import Comb
+from kindshifts.kinds import Kinds
+from kindshifts.numbers import alike_numbers, always_last, class_number, is_most_row, is_one_class, last_at, last_place, lasts_with, most_classes, most_row, numbers_over_rows
+from kindshifts.rules import Rule
+even = Kinds({("e", "e"): "e", ("e", "o"): "o", ("o", "e"): "o", ("o", "o"): "e"})
+some = Rule(even, [(x, y, z) for x in "eo" for y in "eo" for z in "eo" if "e" in (x, y, z)])
+arrows = dict([(triple, "left" if triple in [("o", "e", "o"), ("e", "e", "o")] else "right") for triple in some.triples()])
+layers = [dict([((x, y), (int((x, y) == ("e", "o")), 0, 0)) for x in "eo" for y in "eo"]), dict([((x, y), (0, 1, 0)) for x in "eo" for y in "eo"])]
+comb = Comb(some, arrows, layers)
+four, five = ["o", "o", "o", "o"], ["o", "o", "o", "o", "o"]
+[class_number(comb, four), class_number(comb, five), is_one_class(comb, ["o", "e", "e", "o"]), alike_numbers(comb, "o", 7), alike_numbers(comb, "e", 4)]
+# [2, 5, True, [1, 1, 2, 2, 5, 5, 14], [1, 1, 1, 1]]
+[last_at(comb, four, 0), last_at(comb, five, 3), last_place(comb, five, [(0, 2), (0, 5), (2, 5), (3, 5)]), last_place(comb, four, [(0, 2), (0, 3), (0, 4)])]
+# [[(0, 4), (1, 4), (2, 4)], [(0, 4), (0, 5), (1, 4), (2, 4)], 2, None]
+[numbers_over_rows(comb, 3), numbers_over_rows(comb, 5), most_classes(comb, 4), most_row(comb, 5), is_most_row(comb, 4, ["o", "e", "o", "o"])]
+# [{'e': 4, 'o': 5}, {'e': 21, 'o': 30}, 2, ['o', 'o', 'o', 'o', 'o'], True]
+[lasts_with(comb, five, (0, 4)), lasts_with(comb, five, (0, 5)), always_last(comb, five)]
+# [2, 5, [(0, 5)]]
+'''
+
+CLASSES = '''
+from kindshifts.classes import block_numbers, class_at, class_place, class_size, classes_by_size, common_blocks, grouping_with, grouping_without, is_greatest_last, is_grouping_with, size_by_splits, splits_of
+from kindshifts.combing import Comb
+from kindshifts.kinds import Kinds
+from kindshifts.rules import Rule
+even = Kinds({("e", "e"): "e", ("e", "o"): "o", ("o", "e"): "o", ("o", "o"): "e"})
+some = Rule(even, [(x, y, z) for x in "eo" for y in "eo" for z in "eo" if "e" in (x, y, z)])
+arrows = dict([(triple, "left" if triple in [("o", "e", "o"), ("e", "e", "o")] else "right") for triple in some.triples()])
+layers = [dict([((x, y), (int((x, y) == ("e", "o")), 0, 0)) for x in "eo" for y in "eo"]), dict([((x, y), (0, 1, 0)) for x in "eo" for y in "eo"])]
+comb = Comb(some, arrows, layers)
+four, five = ["o", "o", "o", "o"], ["o", "o", "o", "o", "o"]
+[splits_of(comb, four, [(0, 2), (0, 3), (0, 4)]), class_size(comb, four, [(0, 2), (0, 3), (0, 4)]), splits_of(comb, four, [(0, 3), (0, 4), (1, 3)]), class_size(comb, four, [(0, 3), (0, 4), (1, 3)])]
+# [[1, 2, 3], 3, [1, 3], 2]
+[size_by_splits(comb, five, [(0, 5), (1, 5), (2, 5), (3, 5)]), classes_by_size(comb, five), classes_by_size(comb, four)]
+# [{1: 3, 3: 1}, {2: 3, 4: 2}, {2: 1, 3: 1}]
+[class_at(comb, four, [(0, 2), (0, 3), (0, 4)], 1), class_place(comb, four, [(0, 2), (0, 3), (0, 4)]), block_numbers(comb, four, [(0, 3), (0, 4), (1, 3)])]
+# [[(0, 2), (0, 4), (2, 4)], 2, {(0, 3): 1, (0, 4): 2, (1, 3): 2, (1, 4): 1}]
+[common_blocks(comb, four, [(0, 3), (0, 4), (1, 3)]), grouping_with(comb, four, [(0, 3), (0, 4), (1, 3)], (1, 4)), grouping_without(comb, four, [(0, 3), (0, 4), (1, 3)], (1, 3))]
+# [[(0, 4), (1, 3)], [(0, 4), (1, 3), (1, 4)], None]
+[is_grouping_with(comb, four, [(0, 3), (0, 4), (1, 3)], (1, 3), [(0, 3), (0, 4), (1, 3)]), is_greatest_last(comb, four, [(0, 4), (1, 4), (2, 4)]), is_greatest_last(comb, four, [(0, 3), (0, 4), (1, 3)])]
+# [True, True, False]
+'''
+
+HULLS = '''
+from kindshifts.hulls import many_settled, are_reasons, settled_within, force, hull, is_settled_to, is_opening, least_bases, opening, rounds, told_by_hulls
+from kindshifts.kinds import Kinds
+from kindshifts.rules import Rule
+even = Kinds({("e", "e"): "e", ("e", "o"): "o", ("o", "e"): "o", ("o", "o"): "e"})
+rule = Rule(even, [("e", "o", "o"), ("o", "o", "o")])
+row, zero, two = ["o", "o", "o", "o"], [(0, 2), (0, 3), (0, 4)], [(0, 4), (1, 3), (1, 4)]
+[is_settled_to(rule, "right"), is_settled_to(rule, "left"), is_opening(rule, "right", ["o", "o", "o", "o"]), is_opening(rule, "right", ["e", "e", "e", "e"]), opening(rule, "left")]
+# [False, True, True, False, None]
+[len(hull(rule, "right").triples()), hull(rule, "left") == rule, force(rule, "right", ["o", "o", "o", "o"]), force(rule, "left", ["o", "o", "o", "o"])]
+# [8, True, [('o', 'e', 'o'), ('o', 'o', 'e')], []]
+rounds(rule, "right")
+# {('e', 'e', 'e'): 2, ('e', 'e', 'o'): 1, ('e', 'o', 'e'): 1, ('o', 'e', 'e'): 2, ('o', 'e', 'o'): 1, ('o', 'o', 'e'): 1}
+[settled_within(rule, "right"), are_reasons(rule, "left", []), are_reasons(rule, "right", [(("o", "e", "o"), ["o", "o", "o", "o"])]), many_settled(even, "right")]
+# [[[('e', 'o', 'o')], [('o', 'o', 'o')]], True, False, 51]
+[told_by_hulls(rule, "right", row, zero, two), told_by_hulls(rule, "left", row, zero, two), told_by_hulls(rule, "right", row, zero, zero), least_bases(rule, "right")]
+# ['open', 'apart', 'joined', [[('e', 'o', 'o'), ('o', 'o', 'o')]]]
 '''
 
 
@@ -142,11 +220,20 @@ class Examples(unittest.TestCase):
     def test_section_6_joining(self):
         self.assertEqual(run_examples(self, JOINING), 4)
 
-    def test_section_10_settled(self):
-        self.assertEqual(run_examples(self, SETTLED), 4)
-
     def test_section_8_ending(self):
         self.assertEqual(run_examples(self, ENDING), 4)
+
+    def test_section_10_lasts(self):
+        self.assertEqual(run_examples(self, LASTS), 8)
+
+    def test_section_11_numbers(self):
+        self.assertEqual(run_examples(self, NUMBERS), 4)
+
+    def test_section_12_classes(self):
+        self.assertEqual(run_examples(self, CLASSES), 5)
+
+    def test_section_13_hulls(self):
+        self.assertEqual(run_examples(self, HULLS), 5)
 
 
 if __name__ == "__main__":

@@ -84,6 +84,18 @@ class Language(unittest.TestCase):
             names = defined[path.stem]
             self.assertEqual(len(names), len(set(names)))
 
+    def test_no_two_files_import_from_each_other(self):
+        onward = {path.stem: {node.module.partition(".")[2] for node in ast.walk(tree)
+                              if isinstance(node, ast.ImportFrom) and node.module.startswith("kindshifts.")}
+                  for path, tree in trees()}
+        for name in onward:
+            reached, edge = set(), onward[name]
+            while edge:
+                reached |= edge
+                edge = set().union(*[onward[there] for there in edge]) - reached
+            with self.subTest(path=name):
+                self.assertNotIn(name, reached)
+
     def test_no_import_is_given_another_meaning_or_left_unused(self):
         for path, tree in trees():
             imported = [item.name for node in ast.walk(tree) if isinstance(node, ast.ImportFrom) for item in node.names]
