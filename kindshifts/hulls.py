@@ -172,11 +172,11 @@ def bits_together(bits, triples):
 
 
 def lists_within(kinds, triples):
-    """All lists of some ascending triples, with their bits, shorter ones first."""
+    """All lists of some ascending triples, with their bits, each behind all that lie within it."""
     bits, lists = bits_of(kinds), [(0, [])]
     for triple in triples:
         lists = lists + [(held | bits[triple], some + [triple]) for held, some in lists]
-    return [(held, some) for _, some, held in sorted([(len(some), some, held) for held, some in lists])]
+    return lists
 
 
 def settled_lists(kinds, triples, word):

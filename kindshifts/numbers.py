@@ -22,9 +22,8 @@ def stands(arrows, pair, sides):
     ahead, behind = sides
     if len(pair) == 1:
         return True
-    if behind is not None:
-        return arrows.get(pair + (behind,)) != "right"
-    return ahead is None or arrows.get((ahead,) + pair) != "left"
+    # Where nothing stands beside, no triple is there to have an arrow.
+    return arrows.get(pair + (behind,)) != "right" and arrows.get((ahead,) + pair) != "left"
 
 
 class Tally:

@@ -10,7 +10,7 @@ from kindshifts.combing import (Comb, all_lasts, are_arrows, combing, is_combing
 from kindshifts.ending import are_layers, weight_of
 from kindshifts.errors import (InvalidArrows, InvalidComb, InvalidGrouping, InvalidLayers, InvalidRow, InvalidRule)
 from kindshifts.groupings import grouping_at, left_tower, many_groupings, right_tower
-from kindshifts.kinds import Kinds
+from kindshifts.kinds import Kinds, first_kinds
 from kindshifts.rules import Rule
 from tests.support import (EVEN_TABLE, check_judge, check_wrong, even, every_triple, mixed, mixed_combs, pool, raised,
                            rows_of, seven, shown, some_combs, some_kinds, try_along, try_fewest, try_groupings,
@@ -78,7 +78,10 @@ class Combs(unittest.TestCase):
     def test_equal_exactly_if_all_three_are(self):
         combs = some_combs() + [Comb(TWO, WAYS, [LAYER]), Comb(TWO, WAYS, [PLAIN, LAYER]), Comb(NONE, {}, []),
                                 Comb(TWO, WAYS, [LAYER, PLAIN]), Comb(NONE, {}, [FLAT]), Comb(NONE, {}, [FLAT, FLAT]),
-                                Comb(TWO, WAYS, [{**LAYER, ("o", "o"): (1, 0, 0)}])]
+                                Comb(TWO, WAYS, [{**LAYER, ("o", "o"): (1, 0, 0)}]),
+                                # The same triples, arrows and layers, but another table.
+                                Comb(Rule(first_kinds(["e", "o"]), []), {}, [FLAT]),
+                                Comb(Rule(first_kinds(["e", "o"]), []), {}, [])]
         for one in combs:
             for other in combs:
                 same = shown(one) == shown(other)

@@ -267,6 +267,14 @@ class Lots(unittest.TestCase):
             self.assertIs(is_balanced_lot(ODD, ABOUT, value), False)
         self.assertIs(is_balanced_lot(value={triple: LOT[triple] for triple in reversed(LOT)}, arrows=ABOUT, rule=ODD),
                       True)
+        # Blocks that are taken out and put in by no deed at all make no lot.
+        one, triple = first_kinds(["z"]), ("z", "z", "z")
+        for share in [(0, 0, 5, 0), (0, 0, 0, 0)]:
+            self.assertTrue(try_lot(Rule(one, [triple]), {triple: "right"}, {triple: share}))
+            self.assertIs(is_balanced_lot(Rule(one, [triple]), {triple: "right"}, {triple: share}), False)
+        wide, ways = rule_of(even(), 255), {triple: ABOUT.get(triple, "right") for triple in every_triple(even())}
+        self.assertIs(is_balanced_lot(wide, ways, LOT), True)
+        self.assertIs(is_balanced_lot(wide, ways, {**LOT, ("e", "e", "e"): (0, 0, 0, 0)}), False)
         # It is a lot of arrows all the other way, too, but of no others.
         for ways in all_ways(ODD):
             turned = [ways[triple] == ABOUT[triple] for triple in ways]

@@ -68,7 +68,7 @@ def some_rules(many):
 class Settled(unittest.TestCase):
     def test_settled_to_a_side(self):
         for kinds in two_kinds():
-            for number in range(0, 256, 3):
+            for number in range(256):
                 rule = rule_of(kinds, number)
                 words = [word for word in ("left", "right") if is_settled_to(rule, word)]
                 self.assertEqual(words, [word for word in ("left", "right") if not try_openings(rule, word)])
