@@ -77,15 +77,23 @@ def deeds_along(arrows, spans, grouping):
     return [deed for deed in deeds_at(list(grouping)) if arrows.get(triple_at(spans, deed)) == deed[0]]
 
 
-def combed(arrows, spans, grouping):
-    """The deeds of any combing from a grouping, and the last grouping to which it leads."""
+def walked_on(along, grouping):
+    """The deeds that are made as long as there are some, and the grouping behind them.
+
+    `along` tells a list of the deeds that may be made at a grouping.
+    """
     walked, there = [], list(grouping)
-    deeds = deeds_along(arrows, spans, there)
+    deeds = along(there)
     while deeds:
         walked.append(deeds[0])
         there = deed_made(there, deeds[0])
-        deeds = deeds_along(arrows, spans, there)
+        deeds = along(there)
     return walked, there
+
+
+def combed(arrows, spans, grouping):
+    """The deeds of any combing from a grouping, and the last grouping to which it leads."""
+    return walked_on(lambda there: deeds_along(arrows, spans, there), grouping)
 
 
 def spans_of(comb, row):

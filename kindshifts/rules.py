@@ -36,10 +36,15 @@ def is_triple_of(kinds, value):
     return isinstance(value, tuple) and len(value) == 3 and has_kinds(kinds, value)
 
 
+def are_triples_of(kinds, value):
+    """Whether any object is an ascending list of triples of kinds."""
+    if not isinstance(value, list) or not all([is_triple_of(kinds, triple) for triple in value]):
+        return False
+    return is_ascending(value)
+
+
 def need_triples(kinds, triples):
-    if not isinstance(triples, list) or not all([is_triple_of(kinds, triple) for triple in triples]):
-        raise InvalidTriples(triples)
-    if not is_ascending(triples):
+    if not are_triples_of(kinds, triples):
         raise InvalidTriples(triples)
 
 

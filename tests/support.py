@@ -362,3 +362,52 @@ def try_fewest(graph, start):
 
 def rows_of(kinds, size):
     return [list(row) for row in product(kinds.kinds(), repeat=size)]
+
+
+def try_heads(size):
+    """For each way of being alike of so many things in noughts a list of sums ahead of each place."""
+    lists = [[0]]
+    for _ in range(size):
+        lists = [heads + [more] for heads in lists for more in range(max(heads) + 2)]
+    return lists
+
+
+def number_rows(size):
+    """A row of whole numbers for each way of being alike in noughts."""
+    return [[end - ahead for ahead, end in zip(heads, heads[1:])] for heads in try_heads(size)]
+
+
+def all_places():
+    """The eight lists of places, as the document writes them."""
+    return [["a"], ["b"], ["c"], ["a", "b"], ["b", "c"], ["a", "c"], ["a", "b", "c"], ["a", "b", "c", "whole"]]
+
+
+def try_noughts(row, deed):
+    """Which of A, B, C and of all three are nought."""
+    _, first, second, third, end = deed
+    return [sum(row[first:second]) == 0, sum(row[second:third]) == 0, sum(row[third:end]) == 0,
+            sum(row[first:end]) == 0]
+
+
+def try_nought_let(row, places):
+    """For each grouping, as a tuple, the list of the tuples of a deed that is let and what it makes."""
+    graph = {tuple(grouping): [] for grouping in try_groupings(len(row))}
+    for here, deed, there in try_steps(len(row)):
+        a, b, c, whole = try_noughts(row, deed)
+        if a and "a" in places or b and "b" in places or c and "c" in places or whole and "whole" in places:
+            graph[here].append((deed, there))
+    return graph
+
+
+def try_poured(graph):
+    """The ascending list of the classes of the groupings of a graph."""
+    mark = {here: here for here in graph}
+    for start in graph:
+        if mark[start] == start:
+            edge = [start]
+            for here in edge:
+                for _, there in graph[here]:
+                    if mark[there] != start:
+                        mark[there] = start
+                        edge.append(there)
+    return sorted(sorted(list(here) for here in mark if mark[here] == some) for some in sorted(set(mark.values())))

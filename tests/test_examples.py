@@ -193,6 +193,79 @@ rounds(rule, "right")
 # ['open', 'apart', 'joined', [[('e', 'o', 'o'), ('o', 'o', 'o')]]]
 '''
 
+MARKS = '''
+from kindshifts.kinds import Kinds
+from kindshifts.marks import are_kept, are_kept_pairs, are_parting_weights, block_marks, changing_row, have_like_weights, is_changing_row, kept_count, parting_weights, sorts
+from kindshifts.rules import Rule
+even = Kinds({("e", "e"): "e", ("e", "o"): "o", ("o", "e"): "o", ("o", "o"): "e"})
+lone, first = Rule(even, [("o", "e", "o")]), Rule(even, [("e", "e", "o")])
+row = ["o", "o", "o", "o"]
+[sorts(lone), sorts(first), block_marks(lone, row, [(0, 3), (0, 4), (1, 3)]), block_marks(lone, row, [(0, 2), (0, 4), (2, 4)]), block_marks(first, row, [(0, 2), (0, 4), (2, 4)])]
+# [[['e'], ['o']], [['e', 'o']], [2, 1], [3, 0], [3]]
+[are_kept(lone, {"e": 1, "o": 5}), are_kept(first, {"e": 1, "o": 5}), is_changing_row(first, {"e": 1, "o": 5}, ["e", "e", "o"]), changing_row(lone, {"e": 1, "o": 5})]
+# [True, False, True, None]
+[kept_count(lone), kept_count(Rule(even, [])), kept_count(first), are_kept_pairs(lone, {("e", "e"): 0, ("e", "o"): 3, ("o", "e"): 3, ("o", "o"): 7})]
+# [3, 4, 3, True]
+[have_like_weights(lone, row, [(0, 3), (0, 4), (1, 3)], [(0, 4), (1, 3), (1, 4)]), have_like_weights(lone, row, [(0, 2), (0, 3), (0, 4)], [(0, 2), (0, 4), (2, 4)])]
+# [True, False]
+are_parting_weights(lone, row, [(0, 2), (0, 3), (0, 4)], [(0, 2), (0, 4), (2, 4)], {("e", "e"): 1, ("e", "o"): 0, ("o", "e"): 0, ("o", "o"): 0})
+# True
+'''
+
+ORDERS = '''
+from kindshifts.kinds import Kinds
+from kindshifts.orders import alike_kinds, alike_on, carries, cut_rule, folded_rule, folding, free_lists, is_finer, is_pulled, is_sorted_along, meet_rule, parting_pair, pulled_rule, pushed_rule, rest_rule, row_sent, still_lists, union_rule
+from kindshifts.rules import Rule, all_triples, rule_without
+even = Kinds({("e", "e"): "e", ("e", "o"): "o", ("o", "e"): "o", ("o", "o"): "e"})
+every = Rule(even, all_triples(even))
+seven, middle = rule_without(every, [("o", "o", "o")]), Rule(even, [("e", "e", "e"), ("e", "e", "o"), ("o", "e", "e"), ("o", "e", "o")])
+[is_finer(middle, seven), is_finer(seven, middle), meet_rule(middle, seven) == middle, len(rest_rule(seven, middle).triples()), union_rule(middle, seven) == seven]
+# [True, False, True, 3, True]
+[alike_on(every, seven, ["o", "o"]), alike_on(every, seven, ["o", "o", "o"]), parting_pair(seven, every, ["o", "o", "e"])]
+# [True, False, None]
+four = Kinds({("a", "a"): "a", ("a", "b"): "b", ("b", "a"): "b", ("b", "b"): "a", ("a", "c"): "c", ("c", "a"): "c", ("a", "d"): "d", ("d", "a"): "d", ("b", "c"): "d", ("c", "b"): "d", ("b", "d"): "c", ("d", "b"): "c", ("c", "c"): "a", ("c", "d"): "b", ("d", "c"): "b", ("d", "d"): "a"})
+sent = {"a": "e", "b": "o", "c": "e", "d": "o"}
+deep = pulled_rule(seven, four, sent)
+[len(deep.triples()), carries(deep, seven, sent), is_pulled(deep, seven, sent), pushed_rule(deep, even, sent) == seven, row_sent(four, ["a", "d"], sent)]
+# [56, True, True, True, ['e', 'o']]
+[alike_kinds(deep), folding(deep), len(folded_rule(deep).triples()), alike_kinds(seven), alike_kinds(every), is_sorted_along(every, [["e"], ["o"]])]
+# [[['a', 'c'], ['b', 'd']], {'a': 'a', 'b': 'b', 'c': 'a', 'd': 'b'}, 7, [['e'], ['o']], [['e', 'o']], True]
+[free_lists(deep), still_lists(deep), still_lists(Rule(even, [("o", "o", "o")])), cut_rule(deep, ["c", "a"]).triples() == all_triples(cut_rule(deep, ["a", "c"]).kinds())]
+# [[['a'], ['a', 'c']], [], [['e']], True]
+'''
+
+NOUGHTS = '''
+from kindshifts.kinds import Kinds
+from kindshifts.noughts import alike_in_noughts, are_noughts, combing_deeds, is_free, neutral_comb, is_nought_chain, is_nought_last, joining_places, nought_classes, nought_deeds, nought_joined, nought_last, nought_lasts, nought_stretches, row_with
+row, pairs, nest, low = [1, -1, 1, -1], [(0, 2), (0, 4), (2, 4)], [(0, 4), (1, 3), (1, 4)], [(0, 2), (0, 3), (0, 4)]
+[nought_stretches(row), nought_deeds(row, ["a"], low), nought_deeds(row, ["a", "b", "c"], nest), nought_deeds(row, ["b"], low)]
+# [[(0, 2), (0, 4), (1, 3), (2, 4)], [('right', 0, 2, 3, 4)], [('left', 0, 1, 3, 4)], []]
+[combing_deeds(row, ["a"], low), nought_last(row, ["a"], low), combing_deeds(row, ["a", "b", "c"], nest), nought_last(row, ["a", "b", "c"], nest), is_nought_last(row, ["b"], nest)]
+# [[('right', 0, 2, 3, 4)], [(0, 2), (0, 4), (2, 4)], [('left', 0, 1, 3, 4)], [(0, 3), (0, 4), (1, 3)], True]
+[nought_joined(row, ["a", "b", "c"], low, pairs), nought_joined(row, ["a", "b", "c"], low, nest), is_nought_chain(row, ["a"], low, pairs, [("right", 0, 2, 3, 4)]), joining_places(row, low, pairs)]
+# [True, False, True, [['a'], ['a', 'b'], ['a', 'b', 'c'], ['a', 'b', 'c', 'whole'], ['a', 'c']]]
+[nought_classes(row, ["a", "b", "c"]), nought_lasts(row, ["a", "b", "c"]), nought_classes(row, ["a"])]
+# [2, [[(0, 3), (0, 4), (1, 3)], [(0, 4), (1, 4), (2, 4)]], 4]
+[is_free([0, 0, 5], ["a"]), alike_in_noughts([1, -1, 2], [5, -5, 1]), are_noughts(3, [(0, 1), (1, 2)]), are_noughts(2, [(0, 2)]), nought_stretches(row_with(2, [(0, 2)]))]
+# [True, True, False, True, [(0, 2)]]
+even = Kinds({("e", "e"): "e", ("e", "o"): "o", ("o", "e"): "o", ("o", "o"): "e"})
+[neutral_comb(even, ["b"]).rule().triples(), neutral_comb(even, ["a", "c"]).arrows()[("e", "e", "o")], neutral_comb(even, ["a", "c"]).arrows()[("o", "e", "e")]]
+# [[('e', 'e', 'e'), ('e', 'e', 'o'), ('o', 'e', 'e'), ('o', 'e', 'o')], 'left', 'right']
+'''
+
+BONDS = '''
+from kindshifts.bonds import always_bonds, are_bonds, bonds_at, bonds_of, bonds_place, ever_bonds, grouped_by, many_bonds, pieces_of
+row = [1, -1, 1, -1]
+[bonds_of(row, [(0, 2), (0, 3), (0, 4)]), bonds_of(row, [(0, 2), (0, 4), (2, 4)]), bonds_of(row, [(0, 4), (1, 3), (1, 4)]), bonds_of([0, 0], [(0, 2)])]
+# [[(0, 2), (2, 4)], [(0, 2), (2, 4)], [(0, 4), (1, 3)], []]
+[are_bonds(row, [(0, 4), (1, 3)]), are_bonds(row, [(0, 2)]), are_bonds(row, [(0, 2), (1, 3)]), are_bonds([1, 2, 0], [(0, 2)]), are_bonds([1, 2, 0], [(0, 3)])]
+# [True, False, False, True, False]
+[bonds_of([1, 0, 2], [(0, 2), (0, 3)]), bonds_of([1, 1, 2, 0], [(0, 4), (1, 4), (2, 4)]), pieces_of(row, [(0, 4), (1, 3)], (0, 4)), many_bonds(row), many_bonds([1, -1] * 6)]
+# [[(0, 3)], [(0, 3), (1, 3)], [(0, 1), (1, 3), (3, 4)], 2, 132]
+[bonds_at(row, 1), bonds_place(row, [(0, 4), (1, 3)]), bonds_of(row, grouped_by(row, [(0, 4), (1, 3)])), always_bonds([3, -3]), ever_bonds(row)]
+# [[(0, 4), (1, 3)], 1, [(0, 4), (1, 3)], [(0, 2)], [(0, 2), (0, 4), (1, 3), (2, 4)]]
+'''
+
 
 def run_examples(test, text):
     """Runs the lines, and compares what stands ahead of a line `# ..` with it."""
@@ -234,6 +307,18 @@ class Examples(unittest.TestCase):
 
     def test_section_13_hulls(self):
         self.assertEqual(run_examples(self, HULLS), 5)
+
+    def test_section_14_marks(self):
+        self.assertEqual(run_examples(self, MARKS), 5)
+
+    def test_section_15_orders(self):
+        self.assertEqual(run_examples(self, ORDERS), 5)
+
+    def test_section_16_noughts(self):
+        self.assertEqual(run_examples(self, NOUGHTS), 6)
+
+    def test_section_17_bonds(self):
+        self.assertEqual(run_examples(self, BONDS), 4)
 
 
 if __name__ == "__main__":

@@ -12,7 +12,7 @@ from kindshifts.joining import (all_classes, are_joined, class_count, class_of, 
 from kindshifts.rules import Rule, is_chain, rule_without
 from tests.support import (check_judge, check_wrong, even, every_triple, raised, rows_of, rule_of, seven, shown,
                            some_kinds, try_classes, try_deeds, try_done, try_fewest, try_groupings, try_let,
-                           try_triple, two_kinds, wrong_for)
+                           try_triple, two_kinds)
 from tests.test_groupings import BAD_GROUPINGS, LEFT, OF_FOUR, PAIRS
 from tests.test_kinds import WRONG_ROWS
 from tests.test_rules import WRONG_RULES
