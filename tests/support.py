@@ -6,10 +6,11 @@ from itertools import combinations, product
 
 from kindshifts.combing import Comb, left_comb, right_comb
 from kindshifts.ending import layers_of
-from kindshifts.errors import InvalidComb, InvalidKind, NothingToUndo, Unsettled
+from kindshifts.errors import InvalidComb, InvalidKind, InvalidText, NothingToUndo, Unsettled
 from kindshifts.kinds import Kinds, first_kinds, greatest_kinds, last_kinds, ring_kinds
 from kindshifts.rules import Rule
 from kindshifts.settled import is_settled
+from kindshifts.shelf import Shelf
 
 EVEN_TABLE = {("e", "e"): "e", ("e", "o"): "o", ("o", "e"): "o", ("o", "o"): "e"}
 ODD_TABLE = {("a", "a"): "b", ("a", "b"): "a", ("b", "a"): "b", ("b", "b"): "a"}
@@ -118,7 +119,7 @@ def pool():
 
 def some_objects():
     """Objects of the package, each wanted by some parameter."""
-    return [even(), seven(), Rule(even(), []), mixed()]
+    return [even(), seven(), Rule(even(), []), mixed(), Shelf(mixed())]
 
 
 def shown(value):
@@ -129,6 +130,8 @@ def shown(value):
         return f"Rule({value.kinds().table()!r}, {value.triples()!r})"
     if isinstance(value, Comb):
         return f"Comb({shown(value.rule())}, {value.arrows()!r}, {value.layers()!r})"
+    if isinstance(value, Shelf):
+        return f"Shelf({shown(there(value))})"
     if isinstance(value, list):
         return "[" + ", ".join([shown(item) for item in value]) + "]"
     if isinstance(value, tuple):
@@ -136,6 +139,12 @@ def shown(value):
     if isinstance(value, dict):
         return "{" + ", ".join([shown(key) + ": " + shown(item) for key, item in value.items()]) + "}"
     return repr(value)
+
+
+def there(shelf):
+    """What the methods of a shelf tell, without what can be undone and made again."""
+    return [[(spot, shelf.row_there(spot), shelf.grouping_there(spot), shelf.wish_there(spot))
+             for spot in shelf.spots()], shelf.log()]
 
 
 def raised(call):
@@ -411,3 +420,34 @@ def try_poured(graph):
                         mark[there] = start
                         edge.append(there)
     return sorted(sorted(list(here) for here in mark if mark[here] == some) for some in sorted(set(mark.values())))
+
+
+def bent_texts(text):
+    """The texts that are bent in one place: a sign or a line less, more, or another one."""
+    lines = text.split(chr(10))
+    signs = [" ", chr(10), chr(9), "0", "1", "a", "A", "-", "=", "+", "_", chr(0x663), chr(0xb2), chr(13)]
+    found = [text[:place] + text[place + 1:] for place in range(len(text))]
+    for place in range(len(text) + 1):
+        found += [text[:place] + sign + text[place:] for sign in signs]
+        found += [text[:place] + sign + text[place + 1:] for sign in signs]
+    for place, line in enumerate(lines):
+        found.append(chr(10).join(lines[:place] + lines[place + 1:]))
+        found.append(chr(10).join(lines[:place] + [line, line] + lines[place + 1:]))
+        found.append(chr(10).join(lines[:place] + lines[place + 1:place + 2] + [line] + lines[place + 2:]))
+    return [bent for bent in dict.fromkeys(found) if bent != text]
+
+
+def check_bent(test, reader, writer, texts):
+    """Asks a reader for all bent texts: it takes just those that the writer makes of what it reads."""
+    taken = 0
+    for text in texts:
+        for bent in bent_texts(text):
+            error = raised(lambda: reader(bent))
+            with test.subTest(reader=reader, text=bent):
+                if error is None:
+                    taken += 1
+                    test.assertEqual(writer(reader(bent)), bent)
+                else:
+                    test.assertIs(type(error), InvalidText)
+                    test.assertIs(error.value, bent)
+    return taken

@@ -266,6 +266,78 @@ row = [1, -1, 1, -1]
 # [[(0, 4), (1, 3)], 1, [(0, 4), (1, 3)], [(0, 2)], [(0, 2), (0, 4), (1, 3), (2, 4)]]
 '''
 
+EDITIONS = '''
+from kindshifts.editions import like_rows, changed, changed_by, join_counts, joining_lots, parting_lots
+from kindshifts.kinds import Kinds
+from kindshifts.rules import Rule
+even = Kinds({("e", "e"): "e", ("e", "o"): "o", ("o", "e"): "o", ("o", "o"): "e"})
+seven = Rule(even, [(a, b, c) for a in "eo" for b in "eo" for c in "eo" if (a, b, c) != ("o", "o", "o")])
+row, left, right = ["o", "o", "o", "o"], [(0, 2), (0, 3), (0, 4)], [(0, 4), (1, 4), (2, 4)]
+[len(changed(seven, row, ("bar", ("e", "o", "o")))[0].triples()), changed(seven, row, ("thing", 0, "e"))[1]]
+# [6, ['e', 'o', 'o', 'o']]
+[join_counts(seven, row, []), join_counts(seven, row, [("bar", ("e", "o", "o"))]), join_counts(seven, row, [("let", ("o", "o", "o"))])]
+# [(4, 0, 0), (2, 2, 0), (4, 0, 6)]
+changes = [("bar", ("e", "o", "o")), ("bar", ("o", "o", "e")), ("let", ("o", "o", "o"))]
+[parting_lots(seven, row, changes, left, right), joining_lots(seven, row, changes, left, [(0, 3), (0, 4), (1, 3)]), joining_lots(seven, row, changes, left, right)]
+# [[[0], [1]], [[2]], [[]]]
+[like_rows(seven, row, [row, ["e", "o", "o", "o"]]), changed_by(seven, row, [("thing", 0, "e"), ("thing", 0, "o")])[1]]
+# [[0], ['o', 'o', 'o', 'o']]
+'''
+
+SHELF = '''
+from kindshifts.kinds import Kinds
+from kindshifts.combing import Comb
+from kindshifts.rules import Rule
+from kindshifts.shelf import Shelf, replayed
+even = Kinds({("e", "e"): "e", ("e", "o"): "o", ("o", "e"): "o", ("o", "o"): "e"})
+middle = [("e", "e", "e"), ("e", "e", "o"), ("o", "e", "e"), ("o", "e", "o")]
+lengths = {pair: (0, 1, 0) for pair in even.table()}
+comb = Comb(Rule(even, middle), {triple: "right" for triple in middle}, [lengths])
+shelf = Shelf(comb)
+[shelf.put(["o", "e", "o"], [(0, 2), (0, 3)]), shelf.deeds(0), shelf.last_there(0), shelf.wish(0, [(0, 3), (1, 3)]), shelf.is_met(0), shelf.comb_once(0), shelf.is_met(0)]
+# [0, [('right', 0, 1, 2, 3)], [(0, 3), (1, 3)], None, False, ('right', 0, 1, 2, 3), True]
+[shelf.put(["o", "o"], [(0, 2)]), shelf.unwish(0), shelf.link(0, 1), shelf.spots(), shelf.row_there(0), shelf.grouping_there(0), shelf.deeds(0)]
+# [1, None, None, [0], ['o', 'e', 'o', 'o', 'o'], [(0, 3), (0, 5), (1, 3), (3, 5)], [('left', 0, 1, 2, 3)]]
+[shelf.part(0), shelf.grouping_there(0), shelf.row_there(2), shelf.undo(), shelf.spots(), shelf.redo(), shelf.regroup(0, [(0, 2), (0, 3)]), shelf.way(0)]
+# [2, [(0, 3), (1, 3)], ['o', 'o'], None, [0], None, None, []]
+[len(shelf.log()), replayed(Shelf(comb), shelf.log()).spots()]
+# [8, [0, 2]]
+'''
+
+SCRIPTS = r'''
+from kindshifts.combing import Comb
+from kindshifts.kinds import Kinds
+from kindshifts.rules import Rule
+from kindshifts.scripts import end_of, play, read_script, script_text, shortened
+from kindshifts.shelf import Shelf
+even = Kinds({("e", "e"): "e", ("e", "o"): "o", ("o", "e"): "o", ("o", "o"): "e"})
+middle = Rule(even, [("e", "e", "e"), ("e", "e", "o"), ("o", "e", "e"), ("o", "e", "o")])
+comb = Comb(middle, {triple: "right" for triple in middle.triples()}, [{(a, b): (0, 1, 0) for a in "eo" for b in "eo"}])
+left = [(0, 2), (0, 3)]
+day = [("put", ["o", "e", "o"], left), ("deeds", 0), ("comb_once", 0), ("comb_once", 0), ("wish", 0, left), ("try", [("shift", 0, ("left", 0, 1, 2, 3))]), ("met", 0)]
+play(Shelf(comb), day)
+# [('put', 0), ('deeds', [('right', 0, 1, 2, 3)]), ('combed', ('right', 0, 1, 2, 3)), ('refused', 'Refused'), ('done',), ('tried', [('done',)]), ('met', False)]
+[end_of(comb, day) == {0: (["o", "e", "o"], [(0, 3), (1, 3)], left)}, read_script(script_text(day)) == day]
+# [True, True]
+script_text([("put", ["o"], []), ("shift", 0, ("left", 0, 1, 2, 3)), ("wish", 0, [(0, 2)]), ("try", [])])
+# 'put o\nend\nshift 0 left 0 1 2 3\nwish 0\n  0 2\nend\ntry\nend'
+shortened(comb, [("put", ["o"], []), ("deeds", 0), ("undo",), ("redo",)]) == [("put", ["o"], []), ("redo",)]
+# True
+'''
+
+PAPERS = r'''
+from kindshifts.kinds import Kinds, first_kinds
+from kindshifts.papers import chain_text, change_text, grouping_text, kinds_text, read_chain, read_change, read_grouping, read_kinds, read_rule, rule_text
+from kindshifts.rules import Rule
+ab = first_kinds(["a", "b"])
+[kinds_text(ab), read_kinds("z z = z").kinds(), rule_text(Rule(first_kinds(["z"]), [("z", "z", "z")])), read_rule("z z = z\nlet").triples()]
+# ['a a = a\na b = a\nb a = b\nb b = b', ['z'], 'z z = z\nlet\nz z z', []]
+[grouping_text([(0, 2), (0, 3)]), read_grouping(""), chain_text([("right", 0, 1, 2, 3)]), read_chain("left 0 1 2 12")]
+# ['0 2\n0 3', [], 'right 0 1 2 3', [('left', 0, 1, 2, 12)]]
+[change_text(("let", ("a", "b", "a"))), read_change("thing 0 b"), read_change("bar a a a")]
+# ['let a b a', ('thing', 0, 'b'), ('bar', ('a', 'a', 'a'))]
+'''
+
 
 def run_examples(test, text):
     """Runs the lines, and compares what stands ahead of a line `# ..` with it."""
@@ -319,6 +391,18 @@ class Examples(unittest.TestCase):
 
     def test_section_17_bonds(self):
         self.assertEqual(run_examples(self, BONDS), 4)
+
+    def test_section_18_editions(self):
+        self.assertEqual(run_examples(self, EDITIONS), 4)
+
+    def test_section_19_shelf(self):
+        self.assertEqual(run_examples(self, SHELF), 4)
+
+    def test_section_20_scripts(self):
+        self.assertEqual(run_examples(self, SCRIPTS), 4)
+
+    def test_section_21_papers(self):
+        self.assertEqual(run_examples(self, PAPERS), 3)
 
 
 if __name__ == "__main__":

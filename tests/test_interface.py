@@ -85,12 +85,28 @@ FUNCTIONS = {
     "bonds": ["bonds_of(row, grouping)", "are_bonds(row, value)", "pieces_of(row, bonds, stretch)",
               "grouped_by(row, bonds)", "many_bonds(row)", "bonds_at(row, number)", "bonds_place(row, bonds)",
               "always_bonds(row)", "ever_bonds(row)"],
+    "editions": ["changed(rule, row, change)", "changed_by(rule, row, changes)", "join_counts(rule, row, changes)",
+                 "parting_lots(rule, row, changes, one, other)", "joining_lots(rule, row, changes, one, other)",
+                 "like_rows(rule, row, others)"],
+    "scripts": ["play(shelf, script)", "script_text(script)", "read_script(text)", "end_of(comb, script)",
+                "shortened(comb, script)"],
+    "papers": ["kinds_text(kinds)", "read_kinds(text)", "rule_text(rule)", "read_rule(text)", "grouping_text(grouping)",
+               "read_grouping(text)", "chain_text(chain)", "read_chain(text)", "change_text(change)",
+               "read_change(text)"],
+    "shelf": ["replayed(shelf, log)"],
 }
 CLASSES = {
     "kinds": {"Kinds": ["__init__(self, table)", "__eq__(self, other)", "table(self)", "kinds(self)",
                         "put(self, first, second)"]},
     "combing": {"Comb": ["__init__(self, rule, arrows, layers)", "__eq__(self, other)", "rule(self)", "arrows(self)",
                          "layers(self)"]},
+    "shelf": {"Shelf": ["__init__(self, comb)", "put(self, row, grouping)", "take(self, spot)", "spots(self)",
+                        "row_there(self, spot)", "grouping_there(self, spot)", "wish_there(self, spot)",
+                        "shift(self, spot, deed)", "deeds(self, spot)", "comb_once(self, spot)",
+                        "last_there(self, spot)", "wish(self, spot, grouping)", "unwish(self, spot)",
+                        "is_met(self, spot)", "way(self, spot)", "is_way(self, spot, value)",
+                        "regroup(self, spot, grouping)", "link(self, one, other)", "part(self, spot)", "undo(self)",
+                        "redo(self)", "trial(self)", "attempt(self, action)", "copy(self)", "log(self)"]},
     "rules": {"Rule": ["__init__(self, kinds, triples)", "__eq__(self, other)", "kinds(self)", "triples(self)"]},
 }
 

@@ -19,7 +19,7 @@ METHODS = ["append", "clear", "copy", "count", "endswith", "extend", "find", "ge
 NEVER = ["register", "mro", "elements", "open", "input", "law", "version_info", "with_traceback", "add_note"]
 WORDS = ["type", "typing", "enum", "Enum", "Generic", "Protocol", "ABC", "namedtuple", "NamedTuple", "TypedDict",
          "abstractmethod", "dataclass", "overload", "contextmanager"]
-BARRED = (ast.GeneratorExp, ast.Yield, ast.YieldFrom, ast.Global, ast.Try, ast.AsyncFunctionDef, ast.Await, ast.Div,
+BARRED = (ast.GeneratorExp, ast.Yield, ast.YieldFrom, ast.Global, ast.AsyncFunctionDef, ast.Await, ast.Div,
           ast.AnnAssign, ast.Import)
 DOUBLE = ["__init__", "__eq__", "__enter__", "__exit__"]
 
@@ -63,6 +63,25 @@ class Language(unittest.TestCase):
         self.assertEqual([(name, node.lineno) for name, node in nodes(BARRED)], [])
         self.assertEqual([(name, node.lineno) for name, node in nodes(ast.Constant)
                           if isinstance(node.value, (float, complex, bytes))], [])
+
+    def test_own_errors_alone_are_caught(self):
+        errors = [node.name for _, node in nodes(ast.ClassDef) if (PACKAGE / "errors.py").read_text().count(
+            f"class {node.name}(")]
+        for name, node in nodes(ast.Try):
+            with self.subTest(path=name, line=node.lineno):
+                self.assertEqual(node.finalbody, [])
+                for handler in node.handlers:
+                    self.assertIsInstance(handler.type, ast.Name)
+                    self.assertIn(handler.type.id, errors)
+
+    def test_leaving_a_block_only_assigns(self):
+        for name, node in nodes(ast.FunctionDef):
+            if node.name == "__exit__":
+                with self.subTest(path=name, line=node.lineno):
+                    self.assertEqual([item.arg for item in node.args.args], ["self", "kind", "value", "trace"])
+                    for part in node.body:
+                        self.assertIsInstance(part, ast.Assign)
+                        self.assertIsInstance(part.value, (ast.Attribute, ast.Name))
 
     def test_imports(self):
         for name, node in nodes(ast.ImportFrom):
